@@ -703,7 +703,7 @@ func TestWhatIsSavedIsLoaded(t *testing.T) {
 	}
 }
 
-// keeps is every row of so many bools, and some shorter and longer ones.
+// keeps is every row of so many bools (of more than 6 those that repeat each 6), none, and one more than there are.
 func keeps(n int) [][]bool {
 	l := [][]bool{nil, slices.Repeat([]bool{true}, n+1)}
 	for mask := range 1 << min(n, 6) {
