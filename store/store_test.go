@@ -527,7 +527,7 @@ func checkTold(t *testing.T, what string, x *tree.Tree, l []api.Pair, paths []st
 	checkIs(t, what, x, true)
 }
 
-// checkNoStore holds each call against a tree that is none.
+// checkNoStore holds each call against a tree that is none: whether there is such a path or time plays no part.
 func checkNoStore(t *testing.T, what string, x *tree.Tree, paths []string) {
 	t.Helper()
 	checkIs(t, what, x, false)
@@ -535,14 +535,11 @@ func checkNoStore(t *testing.T, what string, x *tree.Tree, paths []string) {
 	for _, time := range []int{math.MinInt, -1, 0, 1, 5, 1000, latest, latest + 1, math.MaxInt} {
 		checkNoLay(t, what, x, time, row(sized("a", 1)))
 		checkNoLay(t, what, x, time, nil)
-		for _, p := range paths {
+		for _, p := range append(slices.Clone(paths), "/", "a/", "..") {
 			checkAsOf(t, what, x, p, time, api.Entry{}, false, api.ErrArg)
 			checkList(t, what, x, p, time, nil, api.ErrArg)
 			checkHistory(t, what, x, p, nil, api.ErrArg)
 		}
-		checkAsOf(t, what, x, "a/", time, api.Entry{}, false, api.ErrPath)
-		checkList(t, what, x, "a/", time, nil, api.ErrPath)
-		checkHistory(t, what, x, "a/", nil, api.ErrPath)
 	}
 }
 
@@ -737,29 +734,49 @@ func TestAllStores(t *testing.T) {
 	}
 }
 
+// Of a store the path is named first, also where there is no such time.
 func TestPathsThatAreNone(t *testing.T) {
 	for what, l := range stores() {
-		x := made(l)
-		// Of what is no store, too: the path is named first.
-		for _, x := range []*tree.Tree{nil, x, x.Put(pair("z", 3, "x"))} {
-			for _, p := range noPaths() {
-				for _, time := range append(noTimes(), 0, 1, 3, latest, latest+1, math.MaxInt) {
-					checkAsOf(t, what, x, p, time, api.Entry{}, false, api.ErrPath)
-					checkList(t, what, x, p, time, nil, api.ErrPath)
-				}
-				checkHistory(t, what, x, p, nil, api.ErrPath)
-			}
+		checkNoPaths(t, what, made(l), api.ErrPath)
+		if t.Failed() {
+			return
 		}
-		// Also where the tree has versions of just that path.
+	}
+	checkNoPaths(t, "nil", nil, api.ErrPath)
+}
+
+// Of a tree that is no store neither the path nor the time is asked about.
+func TestPathsThatAreNoneOfNoStores(t *testing.T) {
+	checkNoPaths(t, "the empty key alone", tree.New().Put(api.Pair{}), api.ErrArg)
+	for what, l := range stores() {
+		x := made(l)
+		for _, wrong := range []api.Pair{{}, pair("", 3, sizeOne), pair("z", 3, "x"), pair("z", -1, goneValue), pair("z/", 3, sizeOne)} {
+			checkNoPaths(t, what+", and "+show(wrong), x.Put(wrong), api.ErrArg)
+		}
+		// Also where the tree has a pair of just that path.
 		for _, p := range noPaths() {
 			y := x.Put(pair(p, 3, sizeOne))
-			checkAsOf(t, what, y, p, 3, api.Entry{}, false, api.ErrPath)
-			checkList(t, what, y, p, 3, nil, api.ErrPath)
-			checkHistory(t, what, y, p, nil, api.ErrPath)
+			for _, time := range []int{-1, 3} {
+				checkAsOf(t, what, y, p, time, api.Entry{}, false, api.ErrArg)
+				checkList(t, what, y, p, time, nil, api.ErrArg)
+			}
+			checkHistory(t, what, y, p, nil, api.ErrArg)
 		}
 		if t.Failed() {
 			return
 		}
+	}
+}
+
+// checkNoPaths asks, at all kinds of times, for paths that are none.
+func checkNoPaths(t *testing.T, what string, x *tree.Tree, wantErr api.Errno) {
+	t.Helper()
+	for _, p := range noPaths() {
+		for _, time := range append(noTimes(), 0, 1, 3, latest, latest+1, math.MaxInt) {
+			checkAsOf(t, what, x, p, time, api.Entry{}, false, wantErr)
+			checkList(t, what, x, p, time, nil, wantErr)
+		}
+		checkHistory(t, what, x, p, nil, wantErr)
 	}
 }
 
@@ -1280,7 +1297,7 @@ func FuzzPair(f *testing.F) {
 			if isVersion(p) {
 				checkTold(t, "fuzz", x, now, []string{"", "a", path}, []int{0, 5, at, latest})
 			} else {
-				checkNoStore(t, "fuzz", x, []string{"", "a", "a/b"})
+				checkNoStore(t, "fuzz", x, []string{"", "a", "a/b", path})
 			}
 		}
 	})
